@@ -3,6 +3,7 @@ package tree
 import (
 	"lienbook/api"
 	"lienbook/lex"
+	"lienbook/words"
 )
 
 const maxLit = 1e18 - 1 // the greatest number of 18 digits
@@ -179,14 +180,5 @@ func isName(s string) bool {
 	}
 	tokens, err := lex.Lex(s)
 	// A token's text that is all of s leaves no room for blank, nor for another token.
-	return err == nil && len(tokens) > 0 && tokens[0].Kind == api.Word && tokens[0].Text == s && !isKept(s)
-}
-
-// isKept: is it a word that the language keeps for itself?
-func isKept(s string) bool {
-	switch s {
-	case "fn", "let", "if", "else", "repeat", "ret", "box", "int", "mut", "where":
-		return true
-	}
-	return false
+	return err == nil && len(tokens) > 0 && tokens[0].Kind == api.Word && tokens[0].Text == s && !words.IsKept(s)
 }
