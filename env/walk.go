@@ -4,6 +4,7 @@ import (
 	"iter"
 
 	"lienbook/api"
+	"lienbook/walk"
 )
 
 // part is a part of a type, and whether it stands in a Box or a Ref.
@@ -18,25 +19,10 @@ type pair struct {
 }
 
 // parts: all parts of a type.
-func parts(t *api.Ty) iter.Seq[part] { return walk(part{t, false}, part.kids) }
+func parts(t *api.Ty) iter.Seq[part] { return walk.All(part{t, false}, part.kids) }
 
 // pairs: all pairs of parts of two types, as long as each pair fits.
-func pairs(a, b *api.Ty) iter.Seq[pair] { return walk(pair{a, b}, pair.kids) }
-
-// walk: a thing, and all that is in it. A thing's kids are asked for behind its turn, so that one who ranges may end ahead of them, or give it others. It doesn't call itself, as a type may be deeper than calls may.
-func walk[T any](whole T, kids func(T) []T) iter.Seq[T] {
-	return func(yield func(T) bool) {
-		work := []T{whole}
-		for len(work) > 0 {
-			last := work[len(work)-1]
-			work = work[:len(work)-1]
-			if !yield(last) {
-				return
-			}
-			work = append(work, kids(last)...)
-		}
-	}
-}
+func pairs(a, b *api.Ty) iter.Seq[pair] { return walk.All(pair{a, b}, pair.kids) }
 
 func (x part) kids() []part {
 	inside := x.inside || x.ty.Kind == api.Box || x.ty.Kind == api.Ref
